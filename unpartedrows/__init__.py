@@ -1,0 +1,1 @@
+"""Unpartedrows: all orders in which given sets of things stand together."""

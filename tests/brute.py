@@ -1,6 +1,6 @@
 """What the tests hold the program against: plain, slow words of DOC.md, without the program."""
 
-from itertools import chain, combinations, permutations, product
+from itertools import chain, combinations, combinations_with_replacement, permutations, product
 
 
 def orders_of(n):
@@ -119,6 +119,16 @@ def is_normal(tree):
     return well and all(is_normal(part) for part in parts)
 
 
+def are_neighbors(order, a, b):
+    """Point 6.1: the two things stand side by side in the order."""
+    return (a, b) in zip(order, order[1:]) or (b, a) in zip(order, order[1:])
+
+
+def is_between(order, a, b, c):
+    """Point 6.1: b stands between a and c in the order."""
+    return [thing for thing in order if thing in (a, b, c)][1] == b
+
+
 def is_paper(sets, value):
     """Point 3.2, condition by condition."""
     word, things, chains = value
@@ -138,3 +148,125 @@ def is_paper(sets, value):
         if not all(link & other for link, other in zip(links, links[1:])):
             return False
     return True
+
+
+def meetings_of(n):
+    """All meetings of n persons."""
+    pairs = list(combinations(range(n), 2))
+    return [tuple(pair for pair, kept in zip(pairs, choice) if kept) for choice in product((0, 1), repeat=len(pairs))]
+
+
+def relabelled(pairs, names):
+    """The meetings with other numbers for the persons."""
+    return tuple(sorted(tuple(sorted((names[i], names[j]))) for i, j in pairs))
+
+
+def meetings_by(hours):
+    """Point 5.1: the meetings that the hours explain."""
+    return tuple((i, j) for i, j in combinations(range(len(hours)), 2)
+                 if not hours[i][1] < hours[j][0] and not hours[j][1] < hours[i][0])
+
+
+def under_all_names(n, found):
+    """The meetings, and those that they become if the persons have other numbers."""
+    return {relabelled(pairs, names) for pairs in found for names in permutations(range(n))}
+
+
+def explained(n):
+    """All meetings of n persons that hours explain; n moments will do."""
+    visits = [(come, go) for come in range(n) for go in range(come, n)]
+    # Whose hours are which makes no difference but for the numbers of the persons.
+    return under_all_names(n, {meetings_by(hours) for hours in combinations_with_replacement(visits, n)})
+
+
+def equally_explained(n):
+    """All meetings of n persons that equal hours explain; the length n will do, and no delay needs to be longer."""
+    found = set()
+    for delays in product(range(n + 2), repeat=n - 1):
+        comes = [sum(delays[:at]) for at in range(n)]
+        found.add(meetings_by([(come, come + n) for come in comes]))
+    return under_all_names(n, found)
+
+
+def acquaintances(n, pairs):
+    """For each person the set of those whom this one met."""
+    return [{i + j - person for i, j in pairs if person in (i, j)} for person in range(n)]
+
+
+def is_shut_ring(n, pairs, ring):
+    """Point 5.2, condition by condition."""
+    if type(ring) is not tuple or len(ring) < 4 or len(set(ring)) < len(ring) or not set(ring) <= set(range(n)):
+        return False
+    met = acquaintances(n, pairs)
+    return all(met[person] & set(ring) == {ring[at - 1], ring[(at + 1) % len(ring)]} for at, person in enumerate(ring))
+
+
+def is_way(n, pairs, way, first, last, third):
+    """Point 5.2: the way leads from the first person to the last one, and avoids the third one."""
+    if type(way) is not tuple or len(way) == 0 or not set(way) <= set(range(n)):
+        return False
+    met = acquaintances(n, pairs)
+    return (way[0] == first and way[-1] == last and not set(way) & (met[third] | {third})
+            and all(other in met[person] for person, other in zip(way, way[1:])))
+
+
+def avoid(n, pairs, persons, ways):
+    """Point 5.2, condition by condition."""
+    if len(persons) != 3 or len(set(persons)) != 3 or not set(persons) <= set(range(n)) or len(ways) != 3:
+        return False
+    a, b, c = persons
+    return all(is_way(n, pairs, way, *three) for way, three in zip(ways, ((a, b, c), (a, c, b), (b, c, a))))
+
+
+def is_claw(n, pairs, person, three):
+    """Point 5.3, condition by condition."""
+    if len(three) != 3 or len(set(three)) != 3 or not {person, *three} <= set(range(n)):
+        return False
+    met = acquaintances(n, pairs)
+    return set(three) <= met[person] and not any(other in met[one] for one, other in combinations(three, 2))
+
+
+def reached(met, first, allowed):
+    """All persons to whom a way leads on which all persons are allowed."""
+    found = {first} & allowed
+    while True:
+        more = {other for person in found for other in met[person] if other in allowed} | found
+        if more == found:
+            return found
+        found = more
+
+
+def has_shut_ring(n, pairs):
+    """True if some persons, put into some order, are a shut ring."""
+    met = acquaintances(n, pairs)
+    for many in range(4, n + 1):
+        for persons in combinations(range(n), many):
+            chosen = set(persons)
+            if all(len(met[person] & chosen) == 2 for person in persons) and reached(met, persons[0], chosen) == chosen:
+                return True
+    return False
+
+
+def have_avoiding_three(n, pairs):
+    """True if some three persons avoid one another."""
+    met = acquaintances(n, pairs)
+    past = [set(range(n)) - met[person] - {person} for person in range(n)]
+    return any(b in reached(met, a, past[c]) and c in reached(met, a, past[b]) and c in reached(met, b, past[a])
+               for a, b, c in combinations(range(n), 3))
+
+
+def has_claw(n, pairs):
+    """True if some person and three others are a claw."""
+    met = acquaintances(n, pairs)
+    return any(b not in met[a] and c not in met[a] | met[b] for beside in met for a, b, c in combinations(beside, 3))
+
+
+def drawn_hours(n, most, chance):
+    """Hours of n persons between 0 and a greatest moment."""
+    return tuple(tuple(sorted((chance.randint(0, most), chance.randint(0, most)))) for _ in range(n))
+
+
+def changed(n, pairs, chance):
+    """The meetings with one more or one fewer."""
+    pair = tuple(sorted(chance.sample(range(n), 2)))
+    return tuple(sorted(set(pairs) ^ {pair}))

@@ -47,6 +47,26 @@ FUNCTIONS = {
         "ring_count": ["n", "sets"],
         "ring_paper": ["n", "sets"],
     },
+    "graphs": {
+        "check_meetings": ["n", "pairs"],
+    },
+    "visits": {
+        "explains": ["n", "pairs", "hours"],
+        "visits": ["n", "pairs"],
+        "is_shut_ring": ["n", "pairs", "ring"],
+        "avoid": ["n", "pairs", "persons", "ways"],
+    },
+    "equals": {
+        "equal_visits": ["n", "pairs"],
+        "is_claw": ["n", "pairs", "person", "three"],
+    },
+    "questions": {
+        "can_neighbor": ["tree", "a", "b"],
+        "can_be_first": ["tree", "a"],
+        "can_be_between": ["tree", "a", "b", "c"],
+        "is_always_between": ["tree", "a", "b", "c"],
+        "is_always_together": ["tree", "chosen"],
+    },
 }
 
 TREE = ("row", (3, ("any", (2, 0)), 1))
@@ -55,6 +75,9 @@ SETS = ((0, 1), (), (1, 2, 3))
 ARGUMENTS = {
     "n": 4, "chosen": (0, 2), "sets": SETS, "order": ORDER, "tree": TREE, "number": 1,
     "other": ("any", (3, 2, 1, 0)), "value": ("three", (0, 1, 2), ((0,), (1,), (2,))),
+    "pairs": ((0, 1), (0, 2), (0, 3)), "hours": ((0, 9), (1, 2), (4, 5), (7, 8)), "ring": (0, 1, 2, 3),
+    "persons": (1, 2, 3), "ways": ((1, 0, 2), (1, 0, 3), (2, 0, 3)), "person": 0, "three": (3, 1, 2),
+    "a": 3, "b": 2, "c": 1,
 }
 
 
@@ -129,4 +152,4 @@ class AllFunctions(unittest.TestCase):
                 for piece in pieces(function(*[ARGUMENTS[name] for name in arguments])):
                     self.assertIn(type(piece), (int, bool, str, type(None)))
                     if isinstance(piece, str):
-                        self.assertIn(piece, ("any", "row", "three"))
+                        self.assertIn(piece, ("any", "row", "three", "hours", "ring", "equal", "claw"))

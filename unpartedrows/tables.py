@@ -19,6 +19,18 @@ def check_things(n):
     return n
 
 
+def are_different(n, things):
+    """True if each number is one of n things, or persons, and none stands twice."""
+    return all([thing in range(n) for thing in things]) and len(set(things)) == len(things)
+
+
+def check_different(n, things):
+    """Return the things; OutOfRange if they are not different ones of n things."""
+    if not are_different(n, things):
+        raise OutOfRange("these are not different things")
+    return things
+
+
 def check_set(n, chosen):
     """Return the set; InvalidTable if it is no set of n things."""
     if not is_number_of_things(n):

@@ -61,6 +61,21 @@ def least_thing(tree):
     return min([least_thing(part) for part in tree[1]])
 
 
+def part_places(parts):
+    """For each thing the index of the part in which it stands."""
+    return {thing: at for at, part in enumerate(parts) for thing in things_of(part)}
+
+
+def parted_at(tree, things):
+    """The least subtree in which all these things stand, at least two, and the index of its part for each of them."""
+    parts = tree[1]
+    places = part_places(parts)
+    found = [places[thing] for thing in things]
+    if found.count(found[0]) == len(found):
+        return parted_at(parts[found[0]], things)
+    return (tree, found)
+
+
 def arranged(tree):
     """The normal form of what is known to be a tree."""
     if isinstance(tree, int):

@@ -109,6 +109,22 @@ def shuffled(tree, random):
     return (word, tuple(parts[index] for index in indexes))
 
 
+def deep_any(n):
+    """A tree of n things with an "any" of two parts within the other, n - 1 in all."""
+    tree = 0
+    for thing in range(1, n):
+        tree = ("any", (thing, tree))
+    return tree
+
+
+def deep_rows(n):
+    """A tree of n things, an odd number, with rows of three parts, one within the other."""
+    tree = 0
+    for thing in range(1, n, 2):
+        tree = ("row", (thing, tree, thing + 1))
+    return tree
+
+
 def is_normal(tree):
     """Point 2.3, for what is known to be a tree."""
     if isinstance(tree, int):
@@ -127,6 +143,40 @@ def are_neighbors(order, a, b):
 def is_between(order, a, b, c):
     """Point 6.1: b stands between a and c in the order."""
     return [thing for thing in order if thing in (a, b, c)][1] == b
+
+
+def distance(order, other):
+    """Point 6.2: the number of the pairs of things in another sequence."""
+    return sum((order.index(a) < order.index(b)) != (other.index(a) < other.index(b)) for a, b in combinations(order, 2))
+
+
+def keeps(order, wishes):
+    """Point 6.8: in the order the first thing of each wish stands ahead of the second one."""
+    return all(order.index(a) < order.index(b) for a, b in wishes)
+
+
+def subtrees(tree):
+    """The tree itself and the subtrees of its parts."""
+    return [tree] + ([] if isinstance(tree, int) else [each for part in tree[1] for each in subtrees(part)])
+
+
+def is_ring_of(subtree, wishes):
+    """Point 6.8: the chosen wishes are a ring with this subtree, which has parts."""
+    word, parts = subtree
+    places = [tuple(at for thing in wish for at, part in enumerate(parts) if thing in leaves(part)) for wish in wishes]
+    if not wishes or any(len(place) != 2 or place[0] == place[1] for place in places):
+        return False
+    if word == "any":
+        return all(places[at - 1][1] == places[at][0] for at in range(len(places)))
+    return len(places) == 2 and sorted(first < second for first, second in places) == [False, True]
+
+
+def is_wish_ring(tree, wishes, indexes):
+    """Point 6.8, over all subtrees."""
+    if not all(index in range(len(wishes)) for index in indexes):
+        return False
+    chosen = [wishes[index] for index in indexes]
+    return any(is_ring_of(subtree, chosen) for subtree in subtrees(tree) if not isinstance(subtree, int))
 
 
 def is_paper(sets, value):

@@ -67,6 +67,21 @@ FUNCTIONS = {
         "is_always_between": ["tree", "a", "b", "c"],
         "is_always_together": ["tree", "chosen"],
     },
+    "shares": {
+        "count_together": ["tree", "chosen"],
+        "count_neighbors": ["tree", "a", "b"],
+        "count_first": ["tree", "a"],
+        "count_between": ["tree", "a", "b", "c"],
+    },
+    "nearest": {
+        "distance": ["order", "other"],
+        "nearest": ["tree", "wanted"],
+    },
+    "wishes": {
+        "with_wishes": ["tree", "wishes"],
+        "is_wish_ring": ["tree", "wishes", "indexes"],
+        "count_with_wishes": ["tree", "wishes"],
+    },
 }
 
 TREE = ("row", (3, ("any", (2, 0)), 1))
@@ -77,8 +92,15 @@ ARGUMENTS = {
     "other": ("any", (3, 2, 1, 0)), "value": ("three", (0, 1, 2), ((0,), (1,), (2,))),
     "pairs": ((0, 1), (0, 2), (0, 3)), "hours": ((0, 9), (1, 2), (4, 5), (7, 8)), "ring": (0, 1, 2, 3),
     "persons": (1, 2, 3), "ways": ((1, 0, 2), (1, 0, 3), (2, 0, 3)), "person": 0, "three": (3, 1, 2),
-    "a": 3, "b": 2, "c": 1,
+    "a": 3, "b": 2, "c": 1, "wanted": (3, 1, 2, 0), "wishes": ((3, 1), (2, 0), (3, 2), (1, 0)), "indexes": (1, 2),
 }
+# Other kinds of arguments under a name that stands above.
+OTHERS = {"distance": {"other": (3, 1, 2, 0)}}
+
+
+def passed_to(function, arguments):
+    """What the tests pass to the function, by the names of its arguments."""
+    return {name: OTHERS.get(function.__name__, {}).get(name, ARGUMENTS[name]) for name in arguments}
 
 
 def listed():
@@ -121,8 +143,8 @@ class Interface(unittest.TestCase):
     def test_arguments_may_be_passed_by_name(self):
         for _, function, arguments in listed():
             with self.subTest(function.__name__):
-                by_name = function(**{name: ARGUMENTS[name] for name in arguments})
-                by_place = function(*[ARGUMENTS[name] for name in arguments])
+                by_name = function(**passed_to(function, arguments))
+                by_place = function(*passed_to(function, arguments).values())
                 self.assertEqual(sameness(by_name), sameness(by_place))
 
     def test_package_has_a_docstring(self):
@@ -135,13 +157,13 @@ class AllFunctions(unittest.TestCase):
     def test_same_arguments_give_the_same_value(self):
         for _, function, arguments in listed():
             with self.subTest(function.__name__):
-                passed = [ARGUMENTS[name] for name in arguments]
+                passed = list(passed_to(function, arguments).values())
                 self.assertEqual(sameness(function(*passed)), sameness(function(*passed)))
 
     def test_no_argument_is_modified(self):
         for _, function, arguments in listed():
             with self.subTest(function.__name__):
-                passed = [ARGUMENTS[name] for name in arguments]
+                passed = list(passed_to(function, arguments).values())
                 before = sameness(passed)
                 function(*passed)
                 self.assertEqual(sameness(passed), before)
@@ -149,7 +171,7 @@ class AllFunctions(unittest.TestCase):
     def test_values_consist_of_tuples_integers_strings_and_plain_values(self):
         for _, function, arguments in listed():
             with self.subTest(function.__name__):
-                for piece in pieces(function(*[ARGUMENTS[name] for name in arguments])):
+                for piece in pieces(function(*passed_to(function, arguments).values())):
                     self.assertIn(type(piece), (int, bool, str, type(None)))
                     if isinstance(piece, str):
-                        self.assertIn(piece, ("any", "row", "three", "hours", "ring", "equal", "claw"))
+                        self.assertIn(piece, ("any", "row", "three", "hours", "ring", "equal", "claw", "order"))

@@ -21,22 +21,6 @@ BAD_SETS = ((3,), (1, 0), (1, 1), (-1,), (0, 1, 2, 3), (HUGE,))
 FORMS = (("any", (2, 1, 0)), ("row", (1, 2, 0)), ("any", (0, ("any", (1, 2)))))
 
 
-def deep_any(n):
-    """A tree of n things with an "any" of two parts within the other, n - 1 in all."""
-    tree = 0
-    for thing in range(1, n):
-        tree = ("any", (thing, tree))
-    return tree
-
-
-def deep_rows():
-    """A tree over 23 things with 11 rows of three parts, one within the other."""
-    tree = 0
-    for thing in range(1, 23, 2):
-        tree = ("row", (thing, tree, thing + 1))
-    return tree
-
-
 class Held(unittest.TestCase):
     def hold(self, n, tree, orders):
         """All five questions are answered by what is so in the orders, looked through one by one."""
@@ -101,7 +85,7 @@ class Examples(unittest.TestCase):
             self.assertIs(is_always_between(tree, a, b, c), always)
 
     def test_the_sets_of_a_tree_are_always_together(self):
-        for tree in (ALL_24, ROW_24, MIXED_24, deep_any(24), deep_rows()):
+        for tree in (ALL_24, ROW_24, MIXED_24, brute.deep_any(24), brute.deep_rows(23)):
             for chosen in sets_of(tree):
                 self.assertIs(is_always_together(tree, chosen), True)
 
@@ -130,7 +114,7 @@ class GreatestTrees(unittest.TestCase):
         self.assertIs(is_always_together(ROW_24, (3, 4, 6)), False)
 
     def test_trees_one_within_the_other(self):
-        tree = deep_any(24)
+        tree = brute.deep_any(24)
         # The thing 23 stands at an end of the whole, 22 at an end of the others, and so on.
         self.assertEqual([thing for thing in range(24) if can_be_first(tree, thing)], list(range(24)))
         self.assertIs(can_neighbor(tree, 0, 23), True)
@@ -139,7 +123,7 @@ class GreatestTrees(unittest.TestCase):
         self.assertIs(is_always_between(tree, 0, 1, 23), False)
         self.assertIs(is_always_together(tree, tuple(range(20))), True)
         self.assertIs(is_always_together(tree, tuple(range(1, 20))), False)
-        tree = deep_rows()
+        tree = brute.deep_rows(23)
         self.assertEqual([thing for thing in range(23) if can_be_first(tree, thing)], [21, 22])
         self.assertIs(can_neighbor(tree, 0, 1), True)
         self.assertIs(can_neighbor(tree, 0, 3), False)
@@ -149,7 +133,7 @@ class GreatestTrees(unittest.TestCase):
         self.assertIs(is_always_together(tree, tuple(range(1, 23))), False)
 
     def test_how_long_each_takes(self):
-        for tree in (ALL_24, ROW_24, MIXED_24, deep_any(24), deep_rows()):
+        for tree in (ALL_24, ROW_24, MIXED_24, brute.deep_any(24), brute.deep_rows(23)):
             begun = time.perf_counter()
             can_be_first(tree, 0)
             can_neighbor(tree, 0, 1)

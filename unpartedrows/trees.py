@@ -1,9 +1,10 @@
 """Trees: their check, their things, their normal form and their sets."""
 
-from unpartedrows.errors import InvalidTree
+from unpartedrows.errors import InvalidTree, OutOfRange
 from unpartedrows.tables import check_things, is_number_of_things
 
 LEAST_PARTS = {"any": 2, "row": 3}
+MOST_PARTS = 8
 
 
 def checked_parts(value):
@@ -74,6 +75,17 @@ def parted_at(tree, things):
     if found.count(found[0]) == len(found):
         return parted_at(parts[found[0]], things)
     return (tree, found)
+
+
+def check_narrow(tree):
+    """Return what is known to be a tree; OutOfRange if an "any" in it has more than 8 parts."""
+    if not isinstance(tree, int):
+        word, parts = tree
+        if word == "any" and len(parts) > MOST_PARTS:
+            raise OutOfRange("an any of the tree has more than 8 parts")
+        for part in parts:
+            check_narrow(part)
+    return tree
 
 
 def arranged(tree):

@@ -147,7 +147,8 @@ def is_between(order, a, b, c):
 
 def distance(order, other):
     """Point 6.2: the number of the pairs of things in another sequence."""
-    return sum((order.index(a) < order.index(b)) != (other.index(a) < other.index(b)) for a, b in combinations(order, 2))
+    return sum((order.index(a) < order.index(b)) != (other.index(a) < other.index(b))
+               for a, b in combinations(order, 2))
 
 
 def keeps(order, wishes):

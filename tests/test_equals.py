@@ -6,19 +6,12 @@ import time
 import unittest
 
 import brute
+from samples import BAD_PAIRS, HUGE, LINE_24, NO_NUMBERS, PAIRS_24, RING_24, SUN
 from unpartedrows.equals import equal_visits, is_claw
 from unpartedrows.errors import InvalidMeetings
 from unpartedrows.visits import avoid, explains, is_shut_ring, visits
 
-HUGE = 10 ** 6000
-NO_NUMBERS = (0, 25, -1, 26, 100, HUGE, -HUGE)
-ALL_24 = tuple(itertools.combinations(range(24), 2))
-RING_24 = ((0, 1), (0, 23)) + tuple((person, person + 1) for person in range(1, 23))
-LINE_24 = tuple((person, person + 1) for person in range(23))
 STAR_24 = tuple((0, person) for person in range(1, 24))
-SUN = ((0, 1), (0, 2), (0, 3), (0, 4), (1, 2), (1, 3), (1, 5), (2, 4), (2, 5))
-BAD_PAIRS = (((1, 0),), ((0, 1), (0, 1)), ((0, 2), (0, 1)), ((0, 0),), ((-1, 0),), ((0, 4),), ((0,),), ((0, 1, 2),),
-             ((),), ((0, HUGE),))
 
 
 class Held(unittest.TestCase):
@@ -137,10 +130,10 @@ class GreatestMeetings(Held):
             self.hold(24, named, word)
 
     def test_equal_hours(self):
-        for pairs in ((), ALL_24, LINE_24, ALL_24[1:]):
+        for pairs in ((), PAIRS_24, LINE_24, PAIRS_24[1:]):
             self.quick(pairs, "equal")
         for reach in (2, 5, 11, 17, 22):
-            self.quick(tuple(pair for pair in ALL_24 if pair[1] - pair[0] <= reach), "equal")
+            self.quick(tuple(pair for pair in PAIRS_24 if pair[1] - pair[0] <= reach), "equal")
 
     def test_claws(self):
         self.quick(STAR_24, "claw")
@@ -151,8 +144,8 @@ class GreatestMeetings(Held):
 
     def test_what_visits_tells_instead(self):
         self.quick(RING_24, "ring")
-        self.quick(tuple(pair for pair in ALL_24 if pair not in ((0, 1), (22, 23))), "ring")
-        self.quick(tuple(sorted(SUN + tuple(pair for pair in ALL_24 if pair[1] > 5))), "three")
+        self.quick(tuple(pair for pair in PAIRS_24 if pair not in ((0, 1), (22, 23))), "ring")
+        self.quick(tuple(sorted(SUN + tuple(pair for pair in PAIRS_24 if pair[1] > 5))), "three")
 
 
 class IsClaw(unittest.TestCase):
@@ -182,7 +175,7 @@ class IsClaw(unittest.TestCase):
     def test_24_persons(self):
         for three in ((1, 2, 3), (23, 22, 21), (7, 23, 1)):
             self.assertIs(is_claw(24, STAR_24, 0, three), True)
-            self.assertIs(is_claw(24, ALL_24, 0, three), False)
+            self.assertIs(is_claw(24, PAIRS_24, 0, three), False)
         self.assertIs(is_claw(24, STAR_24, 0, (1, 2, 24)), False)
 
 

@@ -4,13 +4,9 @@ import itertools
 import unittest
 
 import brute
+from samples import HUGE, NO_NUMBERS, PAIRS_24, RING_24
 from unpartedrows.errors import InvalidMeetings
 from unpartedrows.graphs import check_meetings
-
-HUGE = 10 ** 6000
-NO_NUMBERS = (0, 25, -1, 26, 100, HUGE, -HUGE)
-ALL_24 = tuple(itertools.combinations(range(24), 2))
-RING_24 = ((0, 1), (0, 23)) + tuple((person, person + 1) for person in range(1, 23))
 
 
 class Meetings(unittest.TestCase):
@@ -36,7 +32,7 @@ class Meetings(unittest.TestCase):
             self.assertEqual(check_meetings(n, ()), ())
 
     def test_the_greatest_meetings(self):
-        for pairs in (ALL_24, ALL_24[1:], ALL_24[:-1], RING_24, ((0, 23),), ((22, 23),)):
+        for pairs in (PAIRS_24, PAIRS_24[1:], PAIRS_24[:-1], RING_24, ((0, 23),), ((22, 23),)):
             self.assertIs(check_meetings(24, pairs), pairs)
 
     def test_other_numbers_of_persons(self):
@@ -50,7 +46,7 @@ class Meetings(unittest.TestCase):
                       ((0, 1), (1, 2), (1, 2)), ((0, 1), (0, 3), (0, 2), (1, 2))):
             with self.assertRaises(InvalidMeetings):
                 check_meetings(4, pairs)
-        for pairs in (ALL_24[::-1], ALL_24 + ((22, 23),), ALL_24 + ((0, 1),), ALL_24[1:] + ALL_24[:1]):
+        for pairs in (PAIRS_24[::-1], PAIRS_24 + ((22, 23),), PAIRS_24 + ((0, 1),), PAIRS_24[1:] + PAIRS_24[:1]):
             with self.assertRaises(InvalidMeetings):
                 check_meetings(24, pairs)
 

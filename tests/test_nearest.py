@@ -6,33 +6,10 @@ import time
 import unittest
 
 import brute
+from samples import BAD_ORDERS, BAD_TREES, BLOCKS_8, FORMS, NARROW, NESTED_8, NINE, ROWS_8, ROW_24, TOO_WIDE
 from unpartedrows.errors import InvalidOrder, InvalidTree, OutOfRange
 from unpartedrows.nearest import distance, nearest
 from unpartedrows.telling import count, order_at, tells
-
-HUGE = 10 ** 6000
-ROW_24 = ("row", tuple(range(24))[::-1])
-# An "any" of 8 parts with three things each, in two ways, and three such within one another.
-BLOCKS = tuple(("any", (low + 1, low, low + 2)) for low in range(0, 24, 3))
-ROWS = tuple(("row", (low, low + 8, low + 16)) for low in range(8))
-NESTED_8 = ("any", (*range(7), ("any", (*range(7, 14), ("any", tuple(range(14, 22)))))))
-WIDE = (("any", BLOCKS), ("any", ROWS), NESTED_8)
-BAD_TREES = (1, -1, HUGE, ("any", (0, 2)), ("any", (0, 0)), ("any", (0,)), ("row", (0, 1)), ("all", (0, 1)), (),
-             ("any", (0, 1), 2), ("any", tuple(range(25))), ("any", (0, ("any", (1, 3)))))
-BAD_ORDERS = ((), (0,), (0, 1), (0, 1, 2, 3), (0, 1, 1), (1, 2, 3), (-1, 0, 1), (0, 1, HUGE), tuple(range(25)))
-FORMS = (("any", (2, 1, 0)), ("row", (1, 2, 0)), ("any", (0, ("any", (1, 2)))))
-NINE = ("any", tuple(range(9)))
-TOO_WIDE = (
-    NINE,
-    ("any", tuple(range(24))),
-    ("any", (9, NINE)),
-    ("row", (10, NINE, 9)),
-    ("row", (9, 10, NINE)),
-    ("any", (9, ("row", (10, ("any", (11, NINE)), 12)))),
-    ("any", (*range(9, 16), NINE)),
-    ("any", (("any", tuple(range(9, 17))), NINE)),
-    ("any", (*range(8), ("row", (8, 9, 10)))),
-)
 
 
 class Distance(unittest.TestCase):
@@ -121,7 +98,7 @@ class GreatestTrees(unittest.TestCase):
 
     def test_an_any_of_8_parts_against_all_sequences_of_them(self):
         chance = random.Random(77)
-        for parts in (BLOCKS, ROWS):
+        for _, parts in (BLOCKS_8, ROWS_8):
             wanted = tuple(chance.sample(range(24), 24))
             least, order = nearest(("any", parts), wanted)
             self.assertIs(tells(("any", parts), order), True)
@@ -139,7 +116,7 @@ class GreatestTrees(unittest.TestCase):
 
     def test_drawn_orders_that_are_told_or_nearly_told(self):
         chance = random.Random(78)
-        for tree in WIDE + (ROW_24, brute.deep_any(24), brute.deep_rows(23)):
+        for tree in NARROW:
             for _ in range(5):
                 order = order_at(tree, chance.randrange(count(tree)))
                 self.assertEqual(nearest(tree, order), (0, order))
@@ -157,7 +134,7 @@ class GreatestTrees(unittest.TestCase):
 
     def test_how_long_each_takes(self):
         chance = random.Random(79)
-        for tree in WIDE + (ROW_24, brute.deep_any(24), brute.deep_rows(23)):
+        for tree in NARROW:
             n = len(brute.leaves(tree))
             wanted = tuple(chance.sample(range(n), n))
             begun = time.perf_counter()
@@ -174,14 +151,14 @@ class Refused(unittest.TestCase):
                     nearest(tree, wanted)
 
     def test_nothing_else(self):
-        for tree in WIDE + (0, ("row", tuple(range(9))), ("row", (NESTED_8, 22, 23)), ("any", tuple(range(8)))):
+        for tree in NARROW + (0, ("row", tuple(range(9))), ("row", (NESTED_8, 22, 23)), ("any", tuple(range(8)))):
             n = len(brute.leaves(tree))
             self.assertIs(tells(tree, nearest(tree, tuple(range(n)))[1]), True)
 
 
 class WhichErrorComesFirst(unittest.TestCase):
     def test_a_bad_tree_comes_first(self):
-        for tree in BAD_TREES + (("any", tuple(range(1, 10))), ("any", (NINE, 8)), ("row", (NINE, 10))):
+        for tree in BAD_TREES:
             for wanted in BAD_ORDERS + ((0, 2, 1), tuple(range(9)), tuple(range(10))):
                 with self.assertRaises(InvalidTree):
                     nearest(tree, wanted)

@@ -7,20 +7,11 @@ import time
 import unittest
 
 import brute
+from samples import ALL_24, BAD_SETS, BAD_TREES, FORMS, GREATEST, HUGE, ROW_24
 from unpartedrows.errors import InvalidTable, InvalidTree, OutOfRange
 from unpartedrows.shares import count_between, count_first, count_neighbors, count_together
 from unpartedrows.telling import count
 from unpartedrows.trees import sets_of
-
-HUGE = 10 ** 6000
-ALL_24 = ("any", tuple(range(24))[::-1])
-ROW_24 = ("row", tuple(range(24))[::-1])
-MIXED_24 = ("row", (("any", tuple(range(8, 24))), ("row", (7, 5, 6)), ("any", (("row", (4, 2, 3)), 1, 0))))
-GREATEST = (ALL_24, ROW_24, MIXED_24, brute.deep_any(24), brute.deep_rows(23))
-BAD_TREES = (1, -1, HUGE, ("any", (0, 2)), ("any", (0, 0)), ("any", (0,)), ("row", (0, 1)), ("all", (0, 1)), (),
-             ("any", (0, 1), 2), ("any", tuple(range(25))), ("any", (0, ("any", (1, 3)))))
-BAD_SETS = ((3,), (1, 0), (1, 1), (-1,), (0, 1, 2, 3), (HUGE,))
-FORMS = (("any", (2, 1, 0)), ("row", (1, 2, 0)), ("any", (0, ("any", (1, 2)))))
 
 
 class Held(unittest.TestCase):

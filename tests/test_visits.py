@@ -6,20 +6,9 @@ import time
 import unittest
 
 import brute
+from samples import ARMS, BAD_PAIRS, HUGE, LINE_24, NO_NUMBERS, PAIRS_24, RING_24, SUN
 from unpartedrows.errors import InvalidMeetings
 from unpartedrows.visits import avoid, explains, is_shut_ring, visits
-
-HUGE = 10 ** 6000
-NO_NUMBERS = (0, 25, -1, 26, 100, HUGE, -HUGE)
-ALL_24 = tuple(itertools.combinations(range(24), 2))
-RING_24 = ((0, 1), (0, 23)) + tuple((person, person + 1) for person in range(1, 23))
-LINE_24 = tuple((person, person + 1) for person in range(23))
-# Three arms of two persons each from the person 0.
-ARMS = ((0, 1), (0, 3), (0, 5), (1, 2), (3, 4), (5, 6))
-# Three persons who all met, and for any two of them one more who met these two.
-SUN = ((0, 1), (0, 2), (0, 3), (0, 4), (1, 2), (1, 3), (1, 5), (2, 4), (2, 5))
-BAD_PAIRS = (((1, 0),), ((0, 1), (0, 1)), ((0, 2), (0, 1)), ((0, 0),), ((-1, 0),), ((0, 4),), ((0,),), ((0, 1, 2),),
-             ((),), ((0, HUGE),))
 
 
 class Held(unittest.TestCase):
@@ -150,19 +139,19 @@ class GreatestMeetings(Held):
             self.hold(24, named, word)
 
     def test_hours(self):
-        for pairs in ((), ALL_24, LINE_24, ALL_24[1:], ALL_24[:-23], ALL_24[:23]):
+        for pairs in ((), PAIRS_24, LINE_24, PAIRS_24[1:], PAIRS_24[:-23], PAIRS_24[:23]):
             self.quick(pairs, "hours")
 
     def test_rings(self):
         self.quick(RING_24, "ring")
         self.assertEqual(len(visits(24, RING_24)[1]), 24)
         for left_out in (((0, 1), (22, 23)), ((0, 23), (1, 22), (2, 21))):
-            self.quick(tuple(pair for pair in ALL_24 if pair not in left_out), "ring")
+            self.quick(tuple(pair for pair in PAIRS_24 if pair not in left_out), "ring")
         # Two halves: everybody met all of the other half and nobody of the own one.
         self.quick(tuple((low, high) for low in range(12) for high in range(12, 24)), "ring")
         # A ring of 8, all of whom met the other 16.
         ring = ((0, 1), (0, 7)) + tuple((person, person + 1) for person in range(1, 7))
-        self.quick(tuple(pair for pair in ALL_24 if pair[1] > 7 or pair in ring), "ring")
+        self.quick(tuple(pair for pair in PAIRS_24 if pair[1] > 7 or pair in ring), "ring")
 
     def test_three_who_avoid_one_another(self):
         def arm(first, many):
@@ -172,7 +161,7 @@ class GreatestMeetings(Held):
         # 21 persons who all met, and three more, each of whom met one of them.
         self.quick(tuple(sorted(tuple(itertools.combinations(range(21), 2)) + ((0, 21), (1, 22), (2, 23)))), "three")
         # The sun, all of whom met the other 18: then the three met a person in common, but avoid one another still.
-        self.quick(tuple(sorted(SUN + tuple(pair for pair in ALL_24 if pair[1] > 5))), "three")
+        self.quick(tuple(sorted(SUN + tuple(pair for pair in PAIRS_24 if pair[1] > 5))), "three")
 
 
 class Explains(unittest.TestCase):
@@ -211,8 +200,8 @@ class Explains(unittest.TestCase):
         self.assertIs(explains(24, LINE_24[1:], hours), False)
         self.assertIs(explains(24, LINE_24, hours[::-1]), True)
         self.assertIs(explains(24, LINE_24, hours[:23]), False)
-        self.assertIs(explains(24, ALL_24, ((7, 7),) * 24), True)
-        self.assertIs(explains(24, ALL_24, ((7, 7),) * 23 + ((8, 7),)), False)
+        self.assertIs(explains(24, PAIRS_24, ((7, 7),) * 24), True)
+        self.assertIs(explains(24, PAIRS_24, ((7, 7),) * 23 + ((8, 7),)), False)
 
 
 class IsShutRing(unittest.TestCase):

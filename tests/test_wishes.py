@@ -7,33 +7,13 @@ import time
 import unittest
 
 import brute
+from samples import ALL_24, BAD_TREES, BLOCKS_8, FORMS, HUGE, LINE_24, NARROW, NESTED_8, NINE, ROWS_8, ROW_24, TOO_WIDE
 from unpartedrows.errors import InvalidTree, OutOfRange
 from unpartedrows.telling import count, order_at, tells
 from unpartedrows.wishes import count_with_wishes, is_wish_ring, with_wishes
 
-HUGE = 10 ** 6000
-ALL_24 = ("any", tuple(range(24))[::-1])
-ROW_24 = ("row", tuple(range(24))[::-1])
-BLOCKS = ("any", tuple(("any", (low + 1, low, low + 2)) for low in range(0, 24, 3)))
-ROWS = ("any", tuple(("row", (low, low + 8, low + 16)) for low in range(8)))
-NESTED_8 = ("any", (*range(7), ("any", (*range(7, 14), ("any", tuple(range(14, 22)))))))
-LINE_24 = tuple((thing, thing + 1) for thing in range(23))
-BAD_TREES = (1, -1, HUGE, ("any", (0, 2)), ("any", (0, 0)), ("any", (0,)), ("row", (0, 1)), ("all", (0, 1)), (),
-             ("any", (0, 1), 2), ("any", tuple(range(25))), ("any", (0, ("any", (1, 3)))))
 BAD_WISHES = ((0, 0), (2, 2), (3, 0), (0, 3), (-1, 0), (0, -1), (-1, -2), (HUGE, 0), (0, -HUGE), (), (0,), (0, 1, 2),
               (0, 1, 1), (3, 3))
-FORMS = (("any", (2, 1, 0)), ("row", (1, 2, 0)), ("any", (0, ("any", (1, 2)))))
-NINE = ("any", tuple(range(9)))
-TOO_WIDE = (
-    NINE,
-    ALL_24,
-    ("any", (9, NINE)),
-    ("row", (10, NINE, 9)),
-    ("row", (9, 10, NINE)),
-    ("any", (9, ("row", (10, ("any", (11, NINE)), 12)))),
-    ("any", (*range(9, 16), NINE)),
-    ("any", (*range(8), ("row", (8, 9, 10)))),
-)
 
 
 class Held(unittest.TestCase):
@@ -212,9 +192,9 @@ class GreatestTrees(unittest.TestCase):
         self.assertEqual(count_with_wishes(eight, ()), math.factorial(8))
         self.assertEqual(count_with_wishes(eight, tuple((0, other) for other in range(1, 8))), math.factorial(7))
         self.assertEqual(count_with_wishes(eight, ((0, 1), (2, 3), (4, 5), (6, 7))), math.factorial(8) // 16)
-        self.assertEqual(count_with_wishes(BLOCKS, ()), math.factorial(8) * 6 ** 8)
-        self.assertEqual(count_with_wishes(BLOCKS, ((0, 1), (0, 3), (1, 4), (9, 6))), math.factorial(8) * 6 ** 8 // 8)
-        self.assertEqual(count_with_wishes(ROWS, ((0, 8), (16, 1), (8, 9), (1, 9))), math.factorial(8) * 2 ** 8 // 8)
+        self.assertEqual(count_with_wishes(BLOCKS_8, ()), math.factorial(8) * 6 ** 8)
+        self.assertEqual(count_with_wishes(BLOCKS_8, ((0, 1), (0, 3), (1, 4), (9, 6))), math.factorial(8) * 6 ** 8 // 8)
+        self.assertEqual(count_with_wishes(ROWS_8, ((0, 8), (16, 1), (8, 9), (1, 9))), math.factorial(8) * 2 ** 8 // 8)
         self.assertEqual(count_with_wishes(NESTED_8, ((0, 1), (7, 21), (14, 21))), math.factorial(8) ** 3 // 8)
 
     def test_drawn_wishes_for_8_parts_against_all_sequences(self):
@@ -231,7 +211,7 @@ class GreatestTrees(unittest.TestCase):
     def test_drawn_wishes(self):
         chance = random.Random(86)
         told = {"order": 0, "ring": 0}
-        for tree in (ALL_24, ROW_24, BLOCKS, ROWS, NESTED_8, brute.deep_any(24), brute.deep_rows(23)):
+        for tree in (ALL_24, *NARROW):
             n = len(brute.leaves(tree))
             for many in (1, 2, 4, 8, 16, 60):
                 wishes = drawn_wishes(n, many, chance)
@@ -248,7 +228,7 @@ class GreatestTrees(unittest.TestCase):
         self.assertGreater(min(told.values()), 5)
 
     def test_how_long_each_takes(self):
-        for tree in (ALL_24, ROW_24, BLOCKS, ROWS, NESTED_8, brute.deep_any(24), brute.deep_rows(23)):
+        for tree in (ALL_24, *NARROW):
             n = len(brute.leaves(tree))
             order = order_at(tree, count(tree) - 1)
             for wishes in (tuple(itertools.permutations(range(n), 2)), tuple(itertools.combinations(order, 2))):
@@ -284,9 +264,9 @@ class IsWishRing(unittest.TestCase):
         wishes = ((0, 2), (3, 5), (5, 1), (0, 1), (2, 4), (4, 2), (5, 6), (1, 0), (2, 0))
         for ring in ((0, 1, 2), (1, 2, 0), (2, 0, 1), (0, 8), (8, 0), (3, 7), (4, 5)):
             self.assertIs(is_wish_ring(tree, wishes, ring), True)
-        for ring in ((), (0,), (3,), (0, 1), (1, 2), (0, 2), (0, 2, 1), (2, 1, 0), (0, 1, 2, 6), (0, 1, 6), (0, 1, 2, 3),
-                     (3, 0, 1, 2), (0, 1, 1, 2), (3, 4), (3, 4, 5, 7), (3, 3), (0, 0), (0, 1, 9), (0, 1, -7),
-                     (-9, -8, -7), (0, 1, HUGE), (9,), (-1,), (0, 1, 2, 9), (8, 1, 2)):
+        for ring in ((), (0,), (3,), (0, 1), (1, 2), (0, 2), (0, 2, 1), (2, 1, 0), (0, 1, 2, 6), (0, 1, 6),
+                     (0, 1, 2, 3), (3, 0, 1, 2), (0, 1, 1, 2), (3, 4), (3, 4, 5, 7), (3, 3), (0, 0), (0, 1, 9),
+                     (0, 1, -7), (-9, -8, -7), (0, 1, HUGE), (9,), (-1,), (0, 1, 2, 9), (8, 1, 2)):
             self.assertIs(is_wish_ring(tree, wishes, ring), False)
 
     def test_an_index_twice(self):
@@ -350,7 +330,7 @@ class WhichErrorComesFirst(unittest.TestCase):
             self.assertRaises(OutOfRange, count_with_wishes, NINE, (wish,))
 
     def test_a_bad_tree_comes_first(self):
-        for tree in BAD_TREES + (("any", tuple(range(1, 10))), ("any", (NINE, 8)), ("row", (NINE, 10))):
+        for tree in BAD_TREES:
             for wishes in ((), ((0, 1),), ((1, 0), (0, 1))) + tuple((wish,) for wish in BAD_WISHES):
                 self.assertRaises(InvalidTree, with_wishes, tree, wishes)
                 self.assertRaises(InvalidTree, count_with_wishes, tree, wishes)

@@ -321,3 +321,147 @@ def changed(n, pairs, chance):
     """The meetings with one more or one fewer."""
     pair = tuple(sorted(chance.sample(range(n), 2)))
     return tuple(sorted(set(pairs) ^ {pair}))
+
+
+def left_of(order, things):
+    """The order of these things that is left if all others are left out."""
+    return tuple(thing for thing in order if thing in things)
+
+
+def gap_count(order, chosen):
+    """Point 6.9: how many stretches of other things, as long as possible, stand between two things of the set."""
+    stretches = [order[low + 1:high] for low, high in combinations(range(len(order)), 2)
+                 if order[low] in chosen and order[high] in chosen]
+    return sum(len(stretch) > 0 and not set(stretch) & set(chosen) for stretch in stretches)
+
+
+def some_fits(things, sets):
+    """Point 6.5: some order of these things fits the sets, each of them with these things alone."""
+    return any(fits(order, sets) for order in permutations(things))
+
+
+def is_knot(sets, things, indexes):
+    """Point 6.5, for a set of things, with each thing and each set left out in turn."""
+    if type(indexes) is not tuple or list(indexes) != sorted(set(indexes) & set(range(len(sets)))):
+        return False
+    chosen = [sets[index] for index in indexes]
+    if some_fits(things, chosen):
+        return False
+    fewer_things = [things[:at] + things[at + 1:] for at in range(len(things))]
+    fewer_sets = [chosen[:at] + chosen[at + 1:] for at in range(len(chosen))]
+    return (all(some_fits(fewer, chosen) for fewer in fewer_things)
+            and all(some_fits(things, fewer) for fewer in fewer_sets))
+
+
+def greatest_choice(n, sets):
+    """Point 6.4: each order fits a choice; of those with the most sets the first one."""
+    fitted = [tuple(index for index, chosen in enumerate(sets) if is_together(order, chosen)) for order in orders_of(n)]
+    most = max(len(choice) for choice in fitted)
+    return min(choice for choice in fitted if len(choice) == most)
+
+
+def cross(chosen, other):
+    """Point 6.6."""
+    chosen, other = set(chosen), set(other)
+    return bool(chosen & other and chosen - other and other - chosen)
+
+
+def first_crossing(sets):
+    """Point 6.6: the first pair of indexes of sets that cross."""
+    found = [pair for pair in combinations(range(len(sets)), 2) if cross(sets[pair[0]], sets[pair[1]])]
+    return min(found, default=None)
+
+
+def holders(sets):
+    """Point 6.6: the holder of each set, or None."""
+    found = []
+    for i, held in enumerate(sets):
+        holding = [j for j, chosen in enumerate(sets)
+                   if held and set(held) <= set(chosen) and (len(chosen) > len(held) or j < i)]
+        fewest = min((len(sets[j]) for j in holding), default=None)
+        found.append(max((j for j in holding if len(sets[j]) == fewest), default=None))
+    return tuple(found)
+
+
+def drawn_sets(n, many, chance):
+    """So many sets of n things, small ones and great ones."""
+    return tuple(tuple(sorted(chance.sample(range(n), chance.randint(0, n)))) for _ in range(many))
+
+
+def drawn_stretches(n, many, chance):
+    """So many sets that stand together in one and the same order of n things."""
+    order = chance.sample(range(n), n)
+    ends = [sorted(chance.sample(range(n + 1), 2)) for _ in range(many)]
+    return tuple(tuple(sorted(order[low:high])) for low, high in ends)
+
+
+def renamed(tree, names):
+    """The tree with other things, as it stands."""
+    if isinstance(tree, int):
+        return names[tree]
+    word, parts = tree
+    return (word, tuple(renamed(part, names) for part in parts))
+
+
+def drawn_nest(things, chance):
+    """Sets of which no two cross: of these things, of blocks of them, of blocks of the blocks, and an empty one."""
+    if len(things) < 2:
+        return [(), things]
+    cuts = sorted(chance.sample(range(1, len(things)), chance.randint(1, min(3, len(things) - 1))))
+    blocks = [things[low:high] for low, high in zip([0] + cuts, cuts + [len(things)])]
+    return [tuple(sorted(things))] + [chosen for block in blocks for chosen in drawn_nest(block, chance)]
+
+
+def forms(tree):
+    """The tree with its parts in each sequence that tells the same."""
+    if isinstance(tree, int):
+        return [tree]
+    word, parts = tree
+    choices = list(product(*[forms(part) for part in parts]))
+    return [(word, tuple(choice[index] for index in indexes)) for indexes in arrangements(tree) for choice in choices]
+
+
+def written(tree):
+    """Point 7.1: the written form of a tree."""
+    if isinstance(tree, int):
+        return str(tree)
+    word, parts = tree
+    inner = " ".join(written(part) for part in parts)
+    return "{" + inner + "}" if word == "any" else "[" + inner + "]"
+
+
+def written_set(chosen):
+    """Point 7.1: the written form of a set."""
+    return " ".join(map(str, chosen)) if chosen else "-"
+
+
+def written_table(sets):
+    """Point 7.1: the written form of a table."""
+    return "\n".join(map(written_set, sets))
+
+
+def written_pairs(pairs):
+    """Point 7.1: the written form of meetings."""
+    return "\n".join(str(i) + "-" + str(j) for i, j in pairs)
+
+
+def edited(text, signs):
+    """All texts that differ by one character: one is left out, put in or replaced by one of the signs."""
+    found = {text[:at] + text[at + 1:] for at in range(len(text))}
+    found |= {text[:at] + sign + text[at:] for at in range(len(text) + 1) for sign in signs}
+    found |= {text[:at] + sign + text[at + 1:] for at in range(len(text)) for sign in signs}
+    return sorted(found - {text})
+
+
+def turned(order, turn):
+    """Point 6.7: the order with the stretch of these places in reverse order."""
+    i, j = turn
+    return tuple(order[i + j - at] if i <= at <= j else thing for at, thing in enumerate(order))
+
+
+def mirrored(tree):
+    """The tree with all parts of all its subtrees in reverse."""
+    if isinstance(tree, int):
+        return tree
+    word, parts = tree
+    return (word, tuple(mirrored(part) for part in reversed(parts)))

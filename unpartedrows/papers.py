@@ -2,12 +2,7 @@
 
 from itertools import combinations
 
-from unpartedrows.tables import check_table
-
-
-def have_common(chosen, other):
-    """True if the two sets have a thing in common."""
-    return any([thing in other for thing in chosen])
+from unpartedrows.tables import check_table, have_common
 
 
 def is_chain(sets, chain, first, last, left_out):

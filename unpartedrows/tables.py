@@ -31,6 +31,16 @@ def check_different(n, things):
     return things
 
 
+def have_common(chosen, other):
+    """True if the two sets have a thing in common."""
+    return any([thing in other for thing in chosen])
+
+
+def is_within(chosen, other):
+    """True if the other set has all things of the set."""
+    return all([thing in other for thing in chosen])
+
+
 def check_set(n, chosen):
     """Return the set; InvalidTable if it is no set of n things."""
     if not is_number_of_things(n):

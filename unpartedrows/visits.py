@@ -4,7 +4,7 @@ from itertools import combinations
 
 from unpartedrows.graphs import check_meetings, have_met, met_by, ways_from
 from unpartedrows.reducing import tree_of
-from unpartedrows.tables import are_different, stretch_of
+from unpartedrows.tables import are_different, is_within, stretch_of
 from unpartedrows.telling import least_order
 
 
@@ -76,11 +76,6 @@ def next_group(met, left):
         if all_met(met, beside):
             return (person, sorted([person] + beside))
     return None
-
-
-def is_within(group, other):
-    """True if all persons of a group are in the other one."""
-    return all([person in other for person in group])
 
 
 def groups_of(met):

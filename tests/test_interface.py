@@ -1,114 +1,14 @@
-"""Where each function of the interface stands, how its arguments are called, and points 0.2 and 0.3."""
+"""Where each function and class of the interface stands, how its arguments are called, and points 0.2 and 0.3."""
 
-import importlib
 import inspect
 import unittest
 
 import unpartedrows
+from interface import ARGUMENTS, CLASSES, class_of, listed, passed_to
 
-FUNCTIONS = {
-    "tables": {
-        "check_things": ["n"],
-        "check_set": ["n", "chosen"],
-        "check_table": ["n", "sets"],
-        "check_order": ["n", "order"],
-        "stands_together": ["order", "chosen"],
-        "first_parted": ["order", "sets"],
-        "stretch_of": ["order", "chosen"],
-        "spanned": ["order", "chosen"],
-    },
-    "trees": {
-        "check_tree": ["n", "tree"],
-        "things_of": ["tree"],
-        "normal": ["tree"],
-        "plain_tree": ["n"],
-        "sets_of": ["tree"],
-    },
-    "telling": {
-        "tells": ["tree", "order"],
-        "count": ["tree"],
-        "order_at": ["tree", "number"],
-        "number_of": ["tree", "order"],
-        "least_order": ["tree"],
-    },
-    "reducing": {
-        "reduced": ["tree", "chosen"],
-        "tree_of": ["n", "sets"],
-        "common": ["tree", "other"],
-    },
-    "papers": {
-        "paper_for": ["n", "sets"],
-        "is_paper": ["n", "sets", "value"],
-    },
-    "around": {
-        "stands_around": ["order", "chosen"],
-        "opened_table": ["n", "sets"],
-        "ring_tree": ["n", "sets"],
-        "ring_count": ["n", "sets"],
-        "ring_paper": ["n", "sets"],
-    },
-    "graphs": {
-        "check_meetings": ["n", "pairs"],
-    },
-    "visits": {
-        "explains": ["n", "pairs", "hours"],
-        "visits": ["n", "pairs"],
-        "is_shut_ring": ["n", "pairs", "ring"],
-        "avoid": ["n", "pairs", "persons", "ways"],
-    },
-    "equals": {
-        "equal_visits": ["n", "pairs"],
-        "is_claw": ["n", "pairs", "person", "three"],
-    },
-    "questions": {
-        "can_neighbor": ["tree", "a", "b"],
-        "can_be_first": ["tree", "a"],
-        "can_be_between": ["tree", "a", "b", "c"],
-        "is_always_between": ["tree", "a", "b", "c"],
-        "is_always_together": ["tree", "chosen"],
-    },
-    "shares": {
-        "count_together": ["tree", "chosen"],
-        "count_neighbors": ["tree", "a", "b"],
-        "count_first": ["tree", "a"],
-        "count_between": ["tree", "a", "b", "c"],
-    },
-    "nearest": {
-        "distance": ["order", "other"],
-        "nearest": ["tree", "wanted"],
-    },
-    "wishes": {
-        "with_wishes": ["tree", "wishes"],
-        "is_wish_ring": ["tree", "wishes", "indexes"],
-        "count_with_wishes": ["tree", "wishes"],
-    },
-}
-
-TREE = ("row", (3, ("any", (2, 0)), 1))
-ORDER = (0, 2, 3, 1)
-SETS = ((0, 1), (), (1, 2, 3))
-ARGUMENTS = {
-    "n": 4, "chosen": (0, 2), "sets": SETS, "order": ORDER, "tree": TREE, "number": 1,
-    "other": ("any", (3, 2, 1, 0)), "value": ("three", (0, 1, 2), ((0,), (1,), (2,))),
-    "pairs": ((0, 1), (0, 2), (0, 3)), "hours": ((0, 9), (1, 2), (4, 5), (7, 8)), "ring": (0, 1, 2, 3),
-    "persons": (1, 2, 3), "ways": ((1, 0, 2), (1, 0, 3), (2, 0, 3)), "person": 0, "three": (3, 1, 2),
-    "a": 3, "b": 2, "c": 1, "wanted": (3, 1, 2, 0), "wishes": ((3, 1), (2, 0), (3, 2), (1, 0)), "indexes": (1, 2),
-}
-# Other kinds of arguments under a name that stands above.
-OTHERS = {"distance": {"other": (3, 1, 2, 0)}}
-
-
-def passed_to(function, arguments):
-    """What the tests pass to the function, by the names of its arguments."""
-    return {name: OTHERS.get(function.__name__, {}).get(name, ARGUMENTS[name]) for name in arguments}
-
-
-def listed():
-    """The name of the module, the function itself and its arguments, for each function of the interface."""
-    for module, functions in FUNCTIONS.items():
-        found = importlib.import_module("unpartedrows." + module)
-        for name, arguments in functions.items():
-            yield module, getattr(found, name), arguments
+# The words of the values that functions tell, and the signs of written forms.
+WORDS = ("any", "row", "three", "hours", "ring", "equal", "claw", "order", "tree")
+SIGNS = "0123456789 {}[]-\n"
 
 
 def sameness(value):
@@ -151,6 +51,52 @@ class Interface(unittest.TestCase):
         self.assertIn("Unpartedrows", unpartedrows.__doc__)
 
 
+class Classes(unittest.TestCase):
+    def test_each_class_is_defined_where_it_is_listed(self):
+        for name, (module, _, _) in CLASSES.items():
+            self.assertTrue(inspect.isclass(class_of(name)))
+            self.assertEqual(class_of(name).__module__, "unpartedrows." + module)
+
+    def test_each_method_is_defined_in_the_class_itself(self):
+        for name, (_, _, methods) in CLASSES.items():
+            for method, arguments in methods.items():
+                with self.subTest(name + "." + method):
+                    found = vars(class_of(name))[method]
+                    self.assertTrue(inspect.isfunction(found))
+                    parameters = inspect.signature(found).parameters
+                    self.assertEqual(list(parameters)[1:], arguments)
+                    for parameter in parameters.values():
+                        self.assertIs(parameter.default, inspect.Parameter.empty)
+
+    def test_attributes_are_set_when_the_object_is_created(self):
+        for name, (_, attributes, _) in CLASSES.items():
+            made = class_of(name)(n=7)
+            for attribute in attributes:
+                self.assertEqual(sameness(vars(made)[attribute]), (int, 7))
+
+    def test_arguments_may_be_passed_by_name(self):
+        book = class_of("Book")(n=4)
+        book.add(chosen=(0, 1))
+        book.put(index=0, chosen=(0, 2))
+        self.assertIs(book.fits(order=(0, 2, 1, 3)), True)
+        book.drop(index=0)
+        meetings = class_of("Meetings")(n=4)
+        self.assertIs(meetings.meet(i=1, j=2), True)
+        self.assertIs(meetings.forget(i=1, j=2), True)
+
+    def test_values_consist_of_tuples_integers_strings_and_plain_values(self):
+        book = class_of("Book")(4)
+        meetings = class_of("Meetings")(4)
+        acts = [book.add(chosen) for chosen in ARGUMENTS["sets"]]
+        acts += [meetings.meet(*pair) for pair in ARGUMENTS["pairs"]]
+        told = [book.undo(), book.redo(), book.sets(), book.tree(), book.answer(), book.fits((0, 1, 2, 3)),
+                meetings.undo(), meetings.redo(), meetings.pairs(), meetings.visits(), meetings.equal_visits()]
+        for value in acts + told:
+            for piece in pieces(value):
+                self.assertIn(type(piece), (int, bool, str, type(None)))
+                self.assertTrue(type(piece) is not str or piece in WORDS)
+
+
 class AllFunctions(unittest.TestCase):
     """Point 0.2."""
 
@@ -174,4 +120,4 @@ class AllFunctions(unittest.TestCase):
                 for piece in pieces(function(*passed_to(function, arguments).values())):
                     self.assertIn(type(piece), (int, bool, str, type(None)))
                     if isinstance(piece, str):
-                        self.assertIn(piece, ("any", "row", "three", "hours", "ring", "equal", "claw", "order"))
+                        self.assertTrue(piece in WORDS or set(piece) <= set(SIGNS))

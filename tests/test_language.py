@@ -18,6 +18,10 @@ BUILTINS = set("""len range enumerate zip min max sum abs sorted reversed int st
 BARRED = set("""register mro elements open input law version_info eval exec compile globals locals vars dir id type
     print float bytes frozenset getattr setattr hasattr chr round pow hash""".split())
 
+METHODS = set("""append clear copy count endswith extend find get index insert isalnum isalpha isdigit islower isspace
+    isupper items join keys ljust lower lstrip partition pop remove replace reverse rfind rjust rpartition rsplit rstrip
+    setdefault split splitlines startswith strip update upper values zfill bit_length""".split())
+
 
 def files():
     return sorted(name for name in os.listdir(FOLDER) if name != "__pycache__")
@@ -114,3 +118,27 @@ class Language(unittest.TestCase):
                 self.assertNotIsInstance(node.value, (float, complex))
                 if isinstance(node.value, str):
                     self.assertNotIn("%", node.value)
+
+    def test_classes(self):
+        methods, attributes = set(), set()
+        for node in nodes():
+            if isinstance(node, ast.ClassDef):
+                self.assertEqual(node.decorator_list, [])
+                self.assertLessEqual(len(node.bases), 1)
+                for each in node.body[1:]:
+                    self.assertIsInstance(each, ast.FunctionDef)
+                    self.assertEqual(each.decorator_list, [])
+                    self.assertTrue(each.name == "__init__" or not each.name.startswith("__"))
+                    methods.add(each.name)
+            if isinstance(node, ast.Attribute) and isinstance(node.ctx, ast.Store):
+                self.assertEqual(node.value.id, "self")
+                attributes.add(node.attr)
+        self.assertEqual(methods & attributes, set())
+        # With a method add of its own a package must not add to sets.
+        for name in methods - {"__init__", "add"}:
+            self.assertFalse(any(hasattr(kind, name) for kind in (str, int, list, dict, tuple, set, bytes)), name)
+        for node in nodes():
+            if isinstance(node, ast.Attribute) and isinstance(node.ctx, ast.Load) and node.attr not in methods:
+                self.assertTrue(node.attr in attributes or node.attr in METHODS, node.attr)
+            if isinstance(node, ast.Attribute):
+                self.assertNotIn(node.attr, ("add", "discard"))

@@ -15,10 +15,9 @@ class Book:
         self._acts = Acts(())
 
     def _check_index(self, index):
-        """Return the index; OutOfRange if no set has it."""
+        """OutOfRange if no set has this index."""
         if index not in range(len(self.sets())):
             raise OutOfRange("no set of the book has this index")
-        return index
 
     def add(self, chosen):
         """Put a set behind the others; InvalidTable if it is none, OutOfRange if there are 40 sets."""
